@@ -46,8 +46,9 @@ class MotionsTest(unittest.TestCase):
         check_refused(self, BadMotion, {"place": place}, motion_rank, house, motion)
 
     def test_what_has_no_form(self):
-        values = strange_values() + [(), ("put",), ("put", (0,), 0), ("amend",), ("amend", 0, 0), ("pass",),
-                                     ("vote", ()), ["lay"], ["put", (0,)], ("Put", (0,)), ((0,), "put"), 0, ("move", ("lay",))]
+        values = strange_values() + [(), ("put",), ("put", (0,), 0), ("amend",), ("amend", 0, 0), ("pass",), 0,
+                                     ("vote", ()), ["lay"], ["put", (0,)], ("Put", (0,)), ((0,), "put"),
+                                     ("move", ("lay",))]
         values += [(kind, 0) for kind in KINDS[2:]] + [(kind, ()) for kind in KINDS[2:]]
         values += [(value,) for value in strange_values()] + [(value, 0) for value in strange_values()]
         for value in values:
