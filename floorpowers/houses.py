@@ -2,8 +2,8 @@
 
 from floorpowers.errors import BadGoal, BadHouse, BadName, BadShare, BadText
 from floorpowers.members import are_weights, does_carry, is_share, need_lot_below, need_member_among
-from floorpowers.subsets import all_subsets, subset_fault
-from floorpowers.values import climb_fault, is_integer_from, is_tuple_of, is_word_of
+from floorpowers.subsets import all_subsets, subset_fault, turned
+from floorpowers.values import climb_fault, is_integer_from, is_tuple_of, is_word_of, plain
 
 KINDS = ("put", "amend", "lay", "take", "close", "end")
 MOST_CLAUSES = 3
@@ -138,15 +138,9 @@ def need_kind(house, kind):
     return kind
 
 
-def plain_rule(rank, share):
-    """A rank and a share of plain values."""
-    parts, whole, is_more = share
-    return (int(rank), (int(parts), int(whole), is_more))
-
-
 def book_rules(house):
-    """For each kind of the book its rank and share; nothing is checked."""
-    return {kind: plain_rule(rank, share) for kind, rank, share in house[2]}
+    """For each kind of the book its rank and share, of plain values; nothing is checked."""
+    return {kind: (rank, share) for kind, rank, share in plain(house[2])}
 
 
 def rule_of(house, kind):
@@ -169,16 +163,11 @@ def all_texts(house):
     return all_subsets(clause_count(house))
 
 
-def turned_in(house, text, change):
-    """A text with the clauses of another one turned; nothing is checked."""
-    return tuple([clause for clause in range(clause_count(house)) if (clause in text) != (clause in change)])
-
-
 def turned_text(house, text, change):
     """The text with the clauses of another text turned."""
     need_text(house, text)
     need_text_in(house, change)
-    return turned_in(house, text, change)
+    return turned(clause_count(house), text, change)
 
 
 def house_with(house, kind, rule):
@@ -189,18 +178,7 @@ def house_with(house, kind, rule):
     if (kind == "put" or rule is not None) and not is_rank_and_share(rule):
         raise BadShare(rule)
     rules = book_rules(house)
-    rules[kind] = None if rule is None else plain_rule(rule[0], rule[1])
-    return plain_house(house, rules)
-
-
-def plain_integers(values):
-    """A tuple of the same integers."""
-    return tuple([int(value) for value in values])
-
-
-def plain_house(house, rules):
-    """The house with these rules in its book, of plain values; a rule that is None is left out."""
-    weights, clauses, _, follow, limit = house
-    book = [(kind,) + rules[kind] for kind in KINDS if rules.get(kind) is not None]
-    plain_limit = None if limit is None else int(limit)
-    return (plain_integers(weights), int(clauses), tuple(book), plain_integers(follow), plain_limit)
+    rules[kind] = plain(rule)
+    weights, clauses, _, follow, limit = plain(house)
+    book = [(each,) + rules[each] for each in KINDS if rules.get(each) is not None]
+    return (weights, clauses, tuple(book), follow, limit)

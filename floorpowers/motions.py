@@ -1,7 +1,8 @@
 """Motions: what may be moved in a house, and their ranks."""
 
 from floorpowers.errors import BadMotion
-from floorpowers.houses import all_texts, book_kinds, book_rules, clause_count, need_house, text_fault
+from floorpowers.houses import book_kinds, book_rules, clause_count, need_house, text_fault
+from floorpowers.subsets import all_subsets
 from floorpowers.values import is_integer_from, is_tuple_of, is_word_of
 
 
@@ -36,7 +37,7 @@ def need_motion(house, motion):
 def motions_of_kind(house, kind):
     """All motions of a kind; nothing is checked."""
     if kind == "put":
-        return [(kind, change) for change in all_texts(house) if change]
+        return [(kind, change) for change in all_subsets(clause_count(house)) if change]
     if kind == "amend":
         return [(kind, clause) for clause in range(clause_count(house))]
     return [(kind,)]

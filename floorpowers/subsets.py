@@ -21,6 +21,11 @@ def rest_of(many, subset):
     return tuple([item for item in range(many) if item not in subset])
 
 
+def turned(many, subset, change):
+    """The integers from 0 on that are less than many and stand in just one of both."""
+    return tuple([item for item in range(many) if (item in subset) != (item in change)])
+
+
 def is_within(subset, far_subset):
     """Whether the second one has all that the first one has."""
     return all([item in far_subset for item in subset])

@@ -29,3 +29,12 @@ def climb_fault(value, is_item):
         if number > 0 and not value[number - 1] < item:
             return (number,)
     return ()
+
+
+def plain(value):
+    """The same value made of plain tuples, strings and integers: what is passed may be of classes below these."""
+    if isinstance(value, tuple):
+        return tuple([plain(item) for item in value])
+    if value is None or isinstance(value, bool):
+        return value
+    return str(value) if isinstance(value, str) else int(value)

@@ -6,6 +6,7 @@ import unittest
 
 from floorpowers.errors import (BadFamily, BadGoal, BadHouse, BadLot, BadMember, BadMotion, BadName, BadNumber,
                                 BadPaper, BadShare, BadText)
+import row_arguments
 from helpers import OtherInt, OtherStr, OtherTuple, are_plain, check_refused, strange_values
 
 HALF = (1, 2, True)
@@ -209,6 +210,8 @@ WRONG = {
         0, (), (0,), (0, HALF, 0), (10, HALF), (-1, HALF), (True, HALF), (0, (1, 2, 1)), [0, HALF], (HALF, 0),
         (0, list(HALF)), ("lay", 0, HALF), (0, None), (None, HALF)] if value is not None],
 }
+FUNCTIONS.update(row_arguments.FUNCTIONS)
+WRONG.update(row_arguments.WRONG)
 
 
 def all_calls():
@@ -291,7 +294,7 @@ class ArgumentsTest(unittest.TestCase):
             for at in range(len(arguments)):
                 for wrong, kind, fields in told[at][:3] + told[at][-1:]:
                     values = [value for _, value, _ in arguments[:at]] + [wrong]
-                    values += [later[0][0] for later in told[at + 1:]]
+                    values += [later[0][0] if later else None for later in told[at + 1:]]
                     with self.subTest(function=function.__name__, name=arguments[at][0]):
                         check_refused(self, kind, fields, function, *values)
                         check_refused(self, kind, fields, function, **self.named(arguments, values))

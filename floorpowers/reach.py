@@ -1,0 +1,115 @@
+"""Going through webs: what leads where from a stand, and by which least rows. Arguments are checked ahead of this."""
+
+from floorpowers.errors import TooGreat
+from floorpowers.halls import Hall, first_steps
+from floorpowers.values import plain
+
+MOST_STANDS = 3000
+
+
+def web_steps(house, stand):
+    """For each stand of the web, in its turn, the first acts that lead to unlike stands, and these stands.
+
+    A stand that is new is found from the first one, in turn, that leads to it, by its first act that does: so those
+    that are as far come in the turn of their least rows.
+    """
+    hall = Hall(house)
+    stands = [plain(stand)]
+    known = {stands[0]: True}
+    steps = {}
+    while len(steps) < len(stands):
+        here = stands[len(steps)]
+        steps[here] = first_steps(hall, here)
+        for _, behind in steps[here]:
+            if behind not in known:
+                known[behind] = True
+                stands.append(behind)
+        if len(stands) > MOST_STANDS:
+            raise TooGreat(MOST_STANDS)
+    return steps
+
+
+def is_any_let(act, behind):
+    """That any step is let: of the act and of the stand behind it nothing is asked."""
+    return True
+
+
+def ways_from(steps, first, is_let):
+    """For each stand that comes by steps that are let, in turn, the pair of the stand ahead and the act; None of first.
+
+    steps tells for each stand what leads where, as web_steps does.
+    """
+    stands = [first]
+    ways = {first: None}
+    at = 0
+    while at < len(stands):
+        here = stands[at]
+        for act, behind in steps[here]:
+            if behind not in ways and is_let(act, behind):
+                ways[behind] = (here, act)
+                stands.append(behind)
+        at += 1
+    return ways
+
+
+def row_by(ways, stand):
+    """The least row to a stand by the ways that ways_from tells, None if it doesn't come."""
+    if stand not in ways:
+        return None
+    acts = []
+    step = ways[stand]
+    while step is not None:
+        acts.append(step[1])
+        step = ways[step[0]]
+    return tuple(acts[::-1])
+
+
+def leading_to(steps, goal):
+    """The stands from which some row comes to goal, as a dict of True; goal is one of those in steps."""
+    ahead = {stand: [] for stand in steps}
+    for stand, told in steps.items():
+        for _, behind in told:
+            ahead[behind].append(stand)
+    found = {goal: True}
+    stands = [goal]
+    while stands:
+        here = stands.pop()
+        for stand in ahead[here]:
+            if stand not in found:
+                found[stand] = True
+                stands.append(stand)
+    return found
+
+
+def farthest_from(steps, places, known, stand):
+    """The last place on a way to which steps lead from a stand of it that meet no other stand of it between.
+
+    known are the stands off the way from which this was looked up ahead; those that are found come to it.
+    """
+    farthest = 0
+    stands = [stand]
+    while stands:
+        here = stands.pop()
+        for _, behind in steps[here]:
+            if behind in places:
+                farthest = max(farthest, places[behind])
+            elif behind not in known:
+                known[behind] = True
+                stands.append(behind)
+    return farthest
+
+
+def chain_on(steps, way):
+    """The stands of a way without which no row comes to its last one.
+
+    Such a one is passed by no steps that leave the way ahead of it and come back behind it.
+    """
+    places = {stand: place for place, stand in enumerate(way)}
+    known = {}
+    chain = []
+    farthest = 0
+    for place, stand in enumerate(way):
+        if farthest == place:
+            chain.append(stand)
+        farthest = max(farthest, farthest_from(steps, places, known, stand))
+    return tuple(chain)
