@@ -158,6 +158,14 @@ class LanguageTest(unittest.TestCase):
                     self.assertIn(node.id, BUILTINS, name)
             self.check_locals(name, tree)
 
+    def test_attributes(self):
+        taken = {each for kind in (str, int, list, tuple, dict, set, bytes) for each in dir(kind)} | set(WORDS)
+        for name, _, tree in sources():
+            for node in ast.walk(tree):
+                if isinstance(node, ast.Attribute) and isinstance(node.ctx, ast.Store):
+                    self.assertNotIn(node.attr, taken, name)
+                    self.assertEqual(getattr(node.value, "id", None), "self", name)
+
     def check_locals(self, name, tree):
         taken = {alias.name for node in tree.body if isinstance(node, ast.ImportFrom) for alias in node.names}
         taken |= {node.name for node in tree.body if isinstance(node, ast.ClassDef)}
