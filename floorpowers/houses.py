@@ -99,13 +99,18 @@ def need_text(house, text):
     return need_text_in(house, text)
 
 
-def need_goal(house, goal):
-    """The goal itself."""
-    need_house(house)
+def need_goal_in(house, goal):
+    """The goal itself, of a house that is checked."""
     fault = goal_fault(house, goal)
     if fault:
         raise BadGoal(fault[0])
     return goal
+
+
+def need_goal(house, goal):
+    """The goal itself."""
+    need_house(house)
+    return need_goal_in(house, goal)
 
 
 def need_member(house, member):

@@ -7,9 +7,16 @@ from floorpowers.stands import stand_fault
 from floorpowers.values import is_tuple_of, is_word_of, plain
 
 
+def need_worded(words, paper):
+    """The paper itself: a pair of one of some words and of anything."""
+    if not is_tuple_of(paper, 2) or not is_word_of(paper[0], words):
+        raise BadPaper("form")
+    return paper
+
+
 def need_paper_of(words, paper):
     """The paper itself: a pair of one of some words and a tuple."""
-    if not is_tuple_of(paper, 2) or not is_word_of(paper[0], words) or not isinstance(paper[1], tuple):
+    if not isinstance(need_worded(words, paper)[1], tuple):
         raise BadPaper("form")
     return paper
 

@@ -7,26 +7,31 @@ from floorpowers.values import plain
 MOST_STANDS = 3000
 
 
-def web_steps(house, stand):
-    """For each stand of the web, in its turn, the first acts that lead to unlike stands, and these stands.
+def gone_through(first, steps_at):
+    """For each thing that comes from a first one, in turn, what leads where from it, as steps_at tells it.
 
-    A stand that is new is found from the first one, in turn, that leads to it, by its first act that does: so those
+    A thing that is new is found from the first one, in turn, that leads to it, by its first act that does: so those
     that are as far come in the turn of their least rows.
     """
-    hall = Hall(house)
-    stands = [plain(stand)]
-    known = {stands[0]: True}
+    found = [first]
+    known = {first: True}
     steps = {}
-    while len(steps) < len(stands):
-        here = stands[len(steps)]
-        steps[here] = first_steps(hall, here)
+    while len(steps) < len(found):
+        here = found[len(steps)]
+        steps[here] = steps_at(here)
         for _, behind in steps[here]:
             if behind not in known:
                 known[behind] = True
-                stands.append(behind)
-        if len(stands) > MOST_STANDS:
+                found.append(behind)
+        if len(found) > MOST_STANDS:
             raise TooGreat(MOST_STANDS)
     return steps
+
+
+def web_steps(house, stand):
+    """For each stand of the web, in its turn, the first acts that lead to unlike stands, and these stands."""
+    hall = Hall(house)
+    return gone_through(plain(stand), lambda here: first_steps(hall, here))
 
 
 def is_any_let(act, behind):
@@ -64,12 +69,18 @@ def row_by(ways, stand):
     return tuple(acts[::-1])
 
 
-def leading_to(steps, goal):
-    """The stands from which some row comes to goal, as a dict of True; goal is one of those in steps."""
+def stands_ahead(steps):
+    """For each stand those from which a step leads to it, once for each step."""
     ahead = {stand: [] for stand in steps}
     for stand, told in steps.items():
         for _, behind in told:
             ahead[behind].append(stand)
+    return ahead
+
+
+def leading_to(steps, goal):
+    """The stands from which some row comes to goal, as a dict of True; goal is one of those in steps."""
+    ahead = stands_ahead(steps)
     found = {goal: True}
     stands = [goal]
     while stands:

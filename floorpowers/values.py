@@ -9,6 +9,11 @@ def is_integer_from(value, low, high):
     return isinstance(value, int) and not isinstance(value, bool) and low <= value <= high
 
 
+def is_natural(value):
+    """Whether a value is an integer from 0 on; True and False are none."""
+    return isinstance(value, int) and not isinstance(value, bool) and value >= 0
+
+
 def is_tuple_of(value, many):
     """Whether a value is a tuple of so many things."""
     return isinstance(value, tuple) and len(value) == many
