@@ -69,3 +69,21 @@ def ranks_to(choices, goals):
                 stands.append(stand)
         at += 1
     return ranks
+
+
+def does_choice_hold(is_mine, known):
+    """Whether the lot chooses and something holds of one stand behind, or the others do and it holds of all."""
+    return any(known) if is_mine else all(known)
+
+
+def is_kept_in(play, told, steps_at):
+    """Whether the others of a lot, from any stand that is told, can keep to these till it is over.
+
+    Where the lot chooses all stands behind have to be told, where the others do one of them.
+    """
+    for stand in told:
+        is_mine, behind = choice_of(play, stand, steps_at(stand))
+        known = [each in told for each in behind]
+        if stand[0] == "floor" and not does_choice_hold(not is_mine, known):
+            return False
+    return True

@@ -16,10 +16,14 @@ def need_powers(house, stand, lot, goal):
     need_goal_in(house, goal)
 
 
+def goal_ends(stands, goal):
+    """Those of some stands that are over with a text of a goal."""
+    return [here for here in stands if here[0] == "over" and here[1] in goal]
+
+
 def ranks_in(house, steps, lot, goal):
     """The ranks of the stands of a web that have one; nothing is checked."""
-    choices = choices_in(Play(house, lot), steps)
-    return ranks_to(choices, [here for here in steps if here[0] == "over" and here[1] in goal])
+    return ranks_to(choices_in(Play(house, lot), steps), goal_ends(steps, goal))
 
 
 def force_ranks(house, stand, lot, goal):
