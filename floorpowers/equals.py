@@ -2,8 +2,9 @@
 
 from floorpowers.errors import BadHouse, BadPaper
 from floorpowers.games import Play, choices_in
-from floorpowers.goalbits import goal_by, goal_count, goals_by, greatest_out, is_in_powers, least_in, powers_in
-from floorpowers.houses import book_kinds, book_rules, clause_count, goal_fault, member_count, need_house
+from floorpowers.goalbits import (goal_by, goal_count, goals_in, greatest_out, is_in_powers, least_in, number_of_goal,
+                                  powers_in)
+from floorpowers.houses import book_rules, clause_count, goal_fault, member_count, need_house
 from floorpowers.members import carrying_family, need_lot_below
 from floorpowers.plans import does_bar, does_force, paper_in
 from floorpowers.reach import web_steps
@@ -33,8 +34,9 @@ def have_equal_powers(house, stand, other_house, other_stand):
 def first_in_one(clauses, powers, other_powers):
     """The first goal, by how many texts it has, that is in just one of both, and whether it is in the first."""
     numbers = [number for number in range(goal_count(clauses)) if is_in_powers(powers ^ other_powers, number)]
-    goals = [(goal_by(clauses, number), is_in_powers(powers, number)) for number in numbers]
-    return min(goals, key=lambda pair: (len(pair[0]), pair[0]))
+    goals = [goal_by(clauses, number) for number in numbers]
+    goal = min([(len(each), each) for each in goals])[1]
+    return (goal, is_in_powers(powers, number_of_goal(clauses, goal)))
 
 
 def parting_power(house, stand, other_house, other_stand):
@@ -42,7 +44,7 @@ def parting_power(house, stand, other_house, other_stand):
     need_both(house, stand, other_house, other_stand)
     powers = lot_powers(house, stand)
     others = lot_powers(other_house, other_stand)
-    for lot in sorted(powers, key=lambda each: (len(each), each)):
+    for _, lot in sorted([(len(each), each) for each in powers]):
         if powers[lot] != others[lot]:
             return (lot,) + first_in_one(clause_count(house), powers[lot], others[lot])
     return None
@@ -68,7 +70,7 @@ def same_lots_carry(house, other_house):
     """Whether two houses have as many members, the same kinds, and for each kind just the same lots carry."""
     need_house(house)
     need_house(other_house)
-    if member_count(house) != member_count(other_house) or book_kinds(house) != book_kinds(other_house):
+    if member_count(house) != member_count(other_house):
         return False
     return kind_carriers(house) == kind_carriers(other_house)
 
@@ -107,7 +109,7 @@ def is_goal_met(goal, forced, barred):
 
 def is_whole(clauses, forced, barred):
     """Whether each goal is met by those that are forced or barred."""
-    return all([is_goal_met(goal, forced, barred) for goal in goals_by(clauses, range(goal_count(clauses)))])
+    return all([is_goal_met(goal, forced, barred) for goal in goals_in(clauses)])
 
 
 def check_lot_paper(house, stand, lot, paper):

@@ -76,7 +76,7 @@ def does_choice_hold(is_mine, known):
     return any(known) if is_mine else all(known)
 
 
-def is_kept_in(play, told, steps_at):
+def can_others_stay(play, told, steps_at):
     """Whether the others of a lot, from any stand that is told, can keep to these till it is over.
 
     Where the lot chooses all stands behind have to be told, where the others do one of them.

@@ -33,6 +33,11 @@ def goals_by(clauses, numbers):
     return tuple(sorted([goal_by(clauses, number) for number in numbers]))
 
 
+def goals_in(clauses):
+    """All goals, ascending."""
+    return goals_by(clauses, list(range(goal_count(clauses))))
+
+
 def goals_with(clauses, text):
     """The goals that have a text, as the binary digits of an integer."""
     place = texts_in(clauses).index(text)

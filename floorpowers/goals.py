@@ -1,7 +1,7 @@
 """Goals: all of them, the least and the greatest ones, and what a lot can force, or what is barred, by these."""
 
 from floorpowers.errors import BadFamily
-from floorpowers.goalbits import goal_count, goals_by, greatest_out, least_in, number_of_goal, powers_in
+from floorpowers.goalbits import goal_count, goals_in, greatest_out, least_in, number_of_goal, powers_in
 from floorpowers.houses import clause_count, goal_fault, member_count, need_goal_in, need_house
 from floorpowers.members import need_lot_below
 from floorpowers.reach import web_steps
@@ -23,7 +23,7 @@ def need_wishes(house, wishes):
 def all_goals(house):
     """All goals of a house, ascending."""
     need_house(house)
-    return goals_by(clause_count(house), range(goal_count(clause_count(house))))
+    return goals_in(clause_count(house))
 
 
 def powers_from(house, stand, lot):

@@ -2,7 +2,7 @@
 
 from floorpowers.acts import is_act
 from floorpowers.errors import BadNumber, BadPaper, BadStand
-from floorpowers.games import Play, choice_of, choices_in, is_kept_in, ranks_to, side_at
+from floorpowers.games import Play, can_others_stay, choice_of, choices_in, ranks_to, side_at
 from floorpowers.halls import acts_in, behind_act, first_steps, is_act_in_order, is_question
 from floorpowers.papers import need_paper_of, stands_told
 from floorpowers.powers import goal_ends, need_powers
@@ -125,9 +125,7 @@ def is_rank_right(house, play, goal, told, stand):
     if stand[0] == "over":
         return rank == 0 and stand[1] in goal and choice is None
     coming = coming_by(house, play, stand, choice)
-    if rank == 0 or coming is None:
-        return False
-    return all([behind in told and told[behind][0] < rank for behind in coming])
+    return coming is not None and all([behind in told and told[behind][0] < rank for behind in coming])
 
 
 def does_force(house, play, first, goal, rows):
@@ -143,7 +141,7 @@ def does_bar(house, play, first, goal, stands):
     told = stands_told(house, stands)
     if told is None or first not in told or goal_ends(told, goal):
         return False
-    return is_kept_in(play, told, lambda stand: first_steps(play.hall, stand))
+    return can_others_stay(play, told, lambda stand: first_steps(play.hall, stand))
 
 
 def check_power(house, stand, lot, goal, paper):

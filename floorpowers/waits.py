@@ -1,7 +1,7 @@
 """Waits: within how many acts a member comes to a move, whatever a lot does, or that the lot keeps it from that."""
 
 from floorpowers.errors import BadMember, BadPaper
-from floorpowers.games import Play, choice_of, choices_in, does_choice_hold, is_kept_in, ranks_to
+from floorpowers.games import Play, can_others_stay, choice_of, choices_in, does_choice_hold, ranks_to
 from floorpowers.houses import member_count
 from floorpowers.members import need_lot_below, need_member_among
 from floorpowers.papers import need_paper_of
@@ -137,7 +137,7 @@ def check_wait(house, stand, lot, member, kind, paper):
     else:
         told = need_web_stands(house, steps, things)
         is_anywhere = any([is_there(wait, here) for here in told])
-        does_hold = not is_anywhere and is_kept_in(wait.play, told, lambda here: steps[here])
+        does_hold = not is_anywhere and can_others_stay(wait.play, told, lambda here: steps[here])
     if not does_hold or plain(stand) not in told:
         raise BadPaper(str(word))
     return str(word)

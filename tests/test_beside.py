@@ -175,6 +175,20 @@ class LooksTest(unittest.TestCase):
         for stand in graph(house, first_stand(house)):
             self.assertEqual(look_count(house, stand), self.classes(house, stand))
 
+    def test_votes_that_make_no_difference(self):
+        """Nobody carries one, another one leads to alike stands: all that counts is where both lead."""
+        house = ((1, 1), 1, book(put=(1, HALF), close=(2, HALF), end=(3, NOBODY)), (1, 0), 2)
+        self.assertEqual(look_count(house, first_stand(house)), self.classes(house, first_stand(house)))
+
+    def test_the_last_pending_motion_is_voted_on(self):
+        """An end upon what makes no difference, whatever that is and whoever carries it."""
+        house = ((1,), 1, book(put=(1, HALF), take=(1, NOBODY), close=(2, HALF), end=(3, HALF)), (0,), 2)
+        stand = ("floor", (), (0,), (("put", ()),), False, 0, 0, 2)
+        ends = [("floor", (), (0,), (first, ("end",)), first != ("take",), 0, 1, 0) for first in (("put", ()), ("take",))]
+        self.assertTrue(set(ends) <= set(graph(house, stand)))
+        self.assertIs(are_alike_places(house, ends[0], house, ends[1]), True)
+        self.assertEqual(look_count(house, stand), self.classes(house, stand))
+
     def test_alike_places_have_as_many(self):
         found = 0
         for place, far_place in PAIRS[::5]:
@@ -300,6 +314,17 @@ class PapersTest(unittest.TestCase):
         self.check_fails(check_cover, "beyond", (less, stand), (BASE, stand), ("beyond", (("move", ("end",)),)))
         self.check_fails(check_alike_places, "parted", (less, stand), (BASE, stand), ("parted", (("move", ("end",)),)))
         self.assertEqual(check_alike_places(less, stand, BASE, stand, ("parted", ())), "parted")
+
+    def test_rows_that_the_other_place_does_not_let(self):
+        stand = first_stand(BASE)
+        less = house_with(BASE, "end", None)
+        row = (("move", ("end",)),) + (("pass",),) * 3 + (("vote", (0, 1, 2)),)
+        self.assertEqual(check_cover(BASE, stand, less, stand, ("beyond", row[:1])), "beyond")
+        for at in range(len(row) + 1):
+            self.check_fails(check_alike_places, "parted", (BASE, stand), (less, stand), ("parted", row[:at])
+                             if at else ("parted", (("pass",), ("move", ("end",)))))
+            if at != 1:
+                self.check_fails(check_cover, "beyond", (BASE, stand), (less, stand), ("beyond", row[:at]))
 
     def test_forms(self):
         wrong = strange_values() + [(), ("alike",), ("cover",), ("alike", (), ()), ["alike", ()], ("Alike", ()),

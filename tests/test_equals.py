@@ -73,6 +73,9 @@ class EqualsTest(unittest.TestCase):
                 self.assertIs(same_lots_carry(one, other), told)
                 found.append(told)
         self.assertTrue(20 < sum(found) < len(found) - 20)
+        one, two = ((9,), 1, RULES, (0,), 1), ((9, 1), 1, RULES, (0, 0), 1)
+        self.assertIs(same_lots_carry(one, two), False)
+        self.assertIs(same_lots_carry(two, two[:2] + (RULES[:1],) + two[3:]), False)
         self.assertIs(same_lots_carry(GREAT, ((3, 2, 1), 1) + GREAT[2:]), True)
         self.assertIs(same_lots_carry(GREAT, ((6, 4, 2),) + GREAT[1:3] + ((0, 0, 0), None)), True)
 
@@ -173,13 +176,14 @@ class LotPapersTest(unittest.TestCase):
             forced, barred = lot_paper(*case)
             self.assertTrue(forced and barred)
             bad = [None, (), ("force",), ("force", ()), ["force", ()], ("force", []), ("bar", ()), ("Force", ()),
-                   barred[0][1], (forced[0][1][0], forced[0][1][1], ())] + strange_values()
+                   barred[0][1], ("bar", forced[0][1][1]), (forced[0][1][0], forced[0][1][1], ())] + strange_values()
             for value in bad:
                 self.check_fails("force", case, (((forced[0][0], value),) + forced[1:], barred))
                 self.check_fails("force", case, (forced + ((forced[0][0], value),), barred))
                 self.check_fails("force", case, (forced + ((forced[0][0], value),), ((barred[0][0], None),)))
                 self.check_fails("force", case, (((forced[0][0], value),), ()))
-            for value in bad[:3] + [("bar", ()), ("bar", []), ("force", ()), forced[0][1], (barred[0][1][1], "bar")]:
+            for value in bad[:3] + [("bar", ()), ("bar", []), ("force", ()), forced[0][1], ("force", barred[0][1][1]),
+                                     (barred[0][1][1], "bar")]:
                 self.check_fails("bar", case, (forced, ((barred[0][0], value),) + barred[1:]))
                 self.check_fails("bar", case, (forced, barred + ((barred[0][0], value),)))
                 self.check_fails("bar", case, ((), ((barred[0][0], value),)))

@@ -238,6 +238,15 @@ class TooGreatTest(unittest.TestCase):
         self.assertIs(does_matter(house, stand, "end"), True)
         self.assertEqual(len(least_ranks(house, stand)), 3)
 
+    def test_a_great_web_with_few_pairs(self):
+        """The pairs with each other share are few: the web itself is too great all the same."""
+        house = ((1,), 3, book(put=(1, HALF), amend=(2, HALF), take=(1, HALF)), (0,), 5)
+        stand = ("floor", (), (0,), (("take",),), False, 0, 1, 5)
+        other = house_with(house, "take", (1, NOBODY))
+        self.assertLess(len(pair_graph((house, stand), (other, stand))), 3000)
+        self.assertGreater(len(graph(house, stand)), 3000)
+        check_refused(self, TooGreat, {"most": 3000}, does_matter, house, stand, "take")
+
     def most_pairs(self, house, kind):
         """How many pairs there are at most with any share of a kind."""
         rank = {each: high for each, high, _ in house[2]}[kind]

@@ -142,6 +142,8 @@ class PapersTest(unittest.TestCase):
                 for other in (0, 1, rank - 1, rank + 1, 100000, 100001, True, False, -1, None, str(rank), (rank,)):
                     told = rows[:at] + ((here, other, chosen),) + rows[at + 1:]
                     self.check_paper(case, ("force", told), is_force_paper(house, stand, lot, goal, told))
+            higher = tuple((here, rank + 1, chosen) for here, rank, chosen in rows)
+            self.check_paper(case, ("force", higher), False)
             raised = tuple((here, rank and rank + 99900, chosen) for here, rank, chosen in rows)
             self.check_paper(case, ("force", raised), is_force_paper(house, stand, lot, goal, raised))
 

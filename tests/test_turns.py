@@ -53,6 +53,9 @@ class TurnsTest(unittest.TestCase):
         five = ((1,) * 5, 1, book(put=(1, HALF)), (3, 0, 4, 2, 4), 0)
         self.assertEqual(turns_from(five, 1), ((1, 0, 3, 2), (4,)))
         self.assertEqual(turn_after(five, 1, 3), 2)
+        four = ((1,) * 4, 1, book(put=(1, HALF)), (1, 2, 3, 1), 0)
+        self.assertEqual([turn_after(four, 0, number) for number in range(9)], turns(four[3], 0, 9))
+        self.assertEqual(turn_after(four, 0, 3 * 10 ** 30), 3)
 
     def test_great_numbers(self):
         for follow in FOLLOWS:

@@ -137,6 +137,8 @@ class PapersTest(unittest.TestCase):
             self.check_paper(case, ("comes", tuple(told.items())), case[1] in told)
             kept = tuple(here for here in graph(case[0], case[1]) if here not in told)
             self.check_paper(case, ("kept", kept), case[1] not in told)
+            whole = tuple(graph(case[0], case[1]))
+            self.check_paper(case, ("kept", whole), 0 not in told.values())
 
     def some(self, word, most):
         """Cases with not too great papers of a word."""

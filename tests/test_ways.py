@@ -275,6 +275,16 @@ class NarrowPapersTest(unittest.TestCase):
             self.check_fails("shut", goal, ("shut", ()))
             self.assertIs(check_narrow(self.house, self.stand, (0,), goal, ("shut", with_over(told))), True)
 
+    def test_shut_without_the_text_itself(self):
+        house = SMALL["two members"]
+        first = ("floor", (0,), None, (), False, 0, 0, 0)
+        goal = first[:5] + (1, 1, 0)
+        self.assertEqual(narrows(house, first, (0,)), (first, goal, ("over", (0,))))
+        self.assertIs(check_narrow(house, first, (0,), goal, ("shut", (first,))), True)
+        for more in (goal, ("over", (0,))):
+            check_refused(self, BadPaper, {"word": "shut"}, check_narrow, house, first, (0,), goal,
+                          ("shut", (first, more)))
+
     def test_shut_for_the_first_stand(self):
         self.assertIs(check_narrow(self.house, self.stand, (0,), self.stand, ("shut", ())), True)
         self.assertIs(check_narrow(self.house, ("over", (0,)), (0,), ("over", (0,)), ("shut", ())), True)
