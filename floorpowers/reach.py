@@ -7,7 +7,7 @@ from floorpowers.values import plain
 MOST_STANDS = 3000
 
 
-def gone_through(first, steps_at):
+def gone_through(first, steps_at, most=MOST_STANDS):
     """For each thing that comes from a first one, in turn, what leads where from it, as steps_at tells it.
 
     A thing that is new is found from the first one, in turn, that leads to it, by its first act that does: so those
@@ -23,8 +23,8 @@ def gone_through(first, steps_at):
             if behind not in known:
                 known[behind] = True
                 found.append(behind)
-        if len(found) > MOST_STANDS:
-            raise TooGreat(MOST_STANDS)
+        if len(found) > most:
+            raise TooGreat(most)
     return steps
 
 
@@ -124,3 +124,55 @@ def chain_on(steps, way):
             chain.append(stand)
         farthest = max(farthest, farthest_from(steps, places, known, stand))
     return tuple(chain)
+
+
+def cheapest_ways(first, steps_at):
+    """For each thing that comes from a first one what its cheapest way costs, and the last step of such a way.
+
+    steps_at tells of a thing the steps (BEHIND, COST, LABEL) from it, COST 0 or 1; told are tuples of the cost, the
+    thing ahead and the LABEL, these two None of the first one.
+    """
+    ways = {}
+    level = [(first, None, None)]
+    cost = 0
+    while level:
+        later = []
+        at = 0
+        while at < len(level):
+            here, ahead, label = level[at]
+            at += 1
+            if here not in ways:
+                ways[here] = (cost, ahead, label)
+                for behind, more, told in steps_at(here):
+                    if more:
+                        later.append((behind, here, told))
+                    else:
+                        level.append((behind, here, told))
+        level = later
+        cost += 1
+    return ways
+
+
+def costs_to(steps, goals):
+    """For each thing from which some of goals come what the cheapest way there costs.
+
+    steps tells for each thing the steps (BEHIND, COST, LABEL) from it, as in cheapest_ways.
+    """
+    ahead = {here: [] for here in steps}
+    for here, told in steps.items():
+        for behind, cost, _ in told:
+            ahead[behind].append((here, cost, None))
+    ways = cheapest_ways(None, lambda here: [(goal, 0, None) for goal in goals] if here is None else ahead[here])
+    return {here: way[0] for here, way in ways.items() if here is not None}
+
+
+def all_steps(first, steps_at):
+    """For each thing that comes from a first one what leads where from it, as steps_at tells it."""
+    steps = {}
+    waiting = [first]
+    while waiting:
+        here = waiting.pop()
+        if here not in steps:
+            steps[here] = steps_at(here)
+            waiting.extend([step[0] for step in steps[here] if step[0] not in steps])
+    return steps

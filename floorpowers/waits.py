@@ -96,17 +96,25 @@ def wait_paper(house, stand, lot, member, kind):
     return ("kept", tuple([here for here in steps if here not in waits]))
 
 
-def need_web_stands(house, steps, stands):
-    """Things as the keys of a dict: unlike stands of the web."""
+def need_in_web(house, steps, stands):
+    """Things, of plain values: stands of the web."""
     if any([stand_fault(house, stand) for stand in stands]):
         raise BadPaper("form")
-    told = {plain(stand): True for stand in stands}
-    if len(told) < len(stands) or not all([stand in steps for stand in told]):
+    told = [plain(stand) for stand in stands]
+    if not all([stand in steps for stand in told]):
         raise BadPaper("form")
     return told
 
 
-def need_waits(house, steps, pairs):
+def need_web_stands(house, steps, stands):
+    """Things as the keys of a dict: unlike stands of the web."""
+    told = {stand: True for stand in need_in_web(house, steps, stands)}
+    if len(told) < len(stands):
+        raise BadPaper("form")
+    return told
+
+
+def need_numbers(house, steps, pairs):
     """For each stand of the web that is told in pairs, once each, its number."""
     if not all([is_tuple_of(pair, 2) and is_integer_from(pair[1], 0, MOST_WAIT) for pair in pairs]):
         raise BadPaper("form")
@@ -132,7 +140,7 @@ def check_wait(house, stand, lot, member, kind, paper):
     steps = web_steps(house, stand)
     word, things = need_paper_of(("comes", "kept"), paper)
     if word == "comes":
-        told = need_waits(house, steps, things)
+        told = need_numbers(house, steps, things)
         does_hold = all([is_wait_right(wait, steps, told, here) for here in told])
     else:
         told = need_web_stands(house, steps, things)

@@ -56,7 +56,9 @@ def fields_of(error):
 
 
 def is_same(found, value):
-    """Whether a field is the very thing, or a plain number or word that equals it."""
+    """Whether a field is the very thing, or a plain number or word that equals it, or a tuple of such."""
+    if type(found) is tuple and type(value) is tuple and len(found) == len(value):
+        return all(is_same(each, other) for each, other in zip(found, value))
     return found is value or type(found) is type(value) and type(value) in (int, str) and found == value
 
 
