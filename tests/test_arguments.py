@@ -7,6 +7,8 @@ import unittest
 from floorpowers.errors import (BadFamily, BadGoal, BadHouse, BadLot, BadMember, BadMotion, BadName, BadNumber,
                                 BadPaper, BadShare, BadText)
 import beside_arguments
+import far_arguments
+import minute_arguments
 import power_arguments
 import row_arguments
 from helpers import OtherInt, OtherStr, OtherTuple, are_plain, check_refused, strange_values
@@ -212,7 +214,7 @@ WRONG = {
         0, (), (0,), (0, HALF, 0), (10, HALF), (-1, HALF), (True, HALF), (0, (1, 2, 1)), [0, HALF], (HALF, 0),
         (0, list(HALF)), ("lay", 0, HALF), (0, None), (None, HALF)] if value is not None],
 }
-for more in (row_arguments, beside_arguments, power_arguments):
+for more in (row_arguments, beside_arguments, power_arguments, far_arguments, minute_arguments):
     FUNCTIONS.update(more.FUNCTIONS)
     WRONG.update(more.WRONG)
 

@@ -1,8 +1,6 @@
 """floorpowers/slipping.py: slips, rows that fit with them, the fewest, which may stand and surely do, papers."""
 
 import unittest
-from itertools import combinations_with_replacement
-
 from floorpowers.errors import BadHouse, BadMinutes, BadPaper, BadRow, BadStand, TooGreat
 from floorpowers.slipping import (check_slips, fewest_slips, fits_with, may_slips, need_slips, slip_paper,
                                   slipped_row, sure_slips, texts_by_slips)
@@ -188,7 +186,7 @@ class FewestTest(unittest.TestCase):
                 self.assertEqual(sure, tuple(slip for slip in slip_order(minutes) if all(slip in w for w in ways)
                                              and ways))
                 found[fewest, len(told) > len(sure), len(sure) > 0] = True
-        self.assertTrue({(0, False, False), (1, False, True), (1, True, False), (2, True, True)} <= set(found), found)
+        self.assertTrue({(0, False, False), (1, False, True), (1, True, False), (3, True, True)} <= set(found))
 
     def test_told_out(self):
         minutes = (("act", PUT), ("note", "top", None))
