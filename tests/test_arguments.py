@@ -11,6 +11,7 @@ import far_arguments
 import minute_arguments
 import power_arguments
 import row_arguments
+import text_arguments
 from helpers import OtherInt, OtherStr, OtherTuple, are_plain, check_refused, strange_values
 
 HALF = (1, 2, True)
@@ -214,7 +215,8 @@ WRONG = {
         0, (), (0,), (0, HALF, 0), (10, HALF), (-1, HALF), (True, HALF), (0, (1, 2, 1)), [0, HALF], (HALF, 0),
         (0, list(HALF)), ("lay", 0, HALF), (0, None), (None, HALF)] if value is not None],
 }
-for more in (row_arguments, beside_arguments, power_arguments, far_arguments, minute_arguments):
+for more in (row_arguments, beside_arguments, power_arguments, far_arguments, minute_arguments,
+             text_arguments):
     FUNCTIONS.update(more.FUNCTIONS)
     WRONG.update(more.WRONG)
 
