@@ -38,6 +38,17 @@ def items_of(words):
     return () if words == ["none"] else tuple(int(word) for word in words)
 
 
+def house_of(text):
+    """The house of a text whose lines are all right ones of houses, None if they don't go together."""
+    lines = [line.split(" ") for line in text.split("\n")]
+    weights, follow = items_of(lines[0][1:]), items_of(lines[-2][1:])
+    rules = tuple((kind, int(rank), (int(part), int(whole), how == "more")) for kind, rank, part, whole, how in lines[2:-2])
+    limit = None if lines[-1][1] == "bare" else int(lines[-1][1])
+    if len(follow) != len(weights) or max(follow) >= len(weights):
+        return None
+    return (weights, int(lines[1][1]), rules, follow, limit)
+
+
 class Model:
     """A desk by the words: lines told, the house, the sitting's first stand and acts, who is led from where."""
 
@@ -80,10 +91,10 @@ class Model:
         fault = forms.fault_of(forms.house, text)
         if "\n" in line or (fault is not None and fault != (len(lines), 0)):
             return "no"
-        if fault is None and text not in [model_house(house) for house in HOUSES]:
+        house = house_of(text) if fault is None else None
+        if fault is None and house is None:
             return "no"
-        self.lines, self.first, self.row, self.led = lines, None, (), None
-        self.house = None if fault else HOUSES[[model_house(house) for house in HOUSES].index(text)]
+        self.lines, self.house, self.first, self.row, self.led = lines, house, None, (), None
         return "done"
 
     def say_begin(self, line):
