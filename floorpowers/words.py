@@ -255,7 +255,7 @@ def take_row(reader):
         end_text(reader)
         return ()
     acts = []
-    while not acts or has_line(reader):
+    while has_line(reader):
         acts.append(take_act(reader))
         end_line(reader)
     return tuple(acts)
@@ -269,6 +269,6 @@ def take_shorts(reader):
         end_text(reader)
         return []
     told = []
-    while not told or has_line(reader):
+    while has_line(reader):
         told.append(take_short(reader, bool(told) and isinstance(told[-1], int)))
     return told

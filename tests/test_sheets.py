@@ -113,6 +113,8 @@ class FormsTest(unittest.TestCase):
             check_refused(self, BadWords, {"line": many, "word": 0}, judged, "\n".join(lines[:many]))
         last = len(lines)
         for line, fault in (("row", (last, 1)), ("row Abc", (last, 1)), ("row abcdefghi", (last, 1)), ("row a b", (last, 2)),
+                            ("lot a1 0", (last, 1)), ("lot 1 0", (last, 1)), ("goal a_b 0", (last, 1)),
+                            ("comes a-", (last, 1)), ("comes ", (last, 1)),
                             ("lot a", (last, 2)), ("goal a", (last, 2)), ("goal a never or 0", (last, 3)),
                             ("goal a 0 or", (last, 4)), ("goal a 0 or never", (last, 4)), ("ends a", (last, 2)),
                             ("comes", (last, 1)), ("comes a b", (last, 2)), ("stands a 0", (last, 3)), ("", (last, 0)),
