@@ -67,6 +67,7 @@ def wrong_both_lots(journey):
     told += [((value, ()), (0, None)) for value in strange_values() + [[]]]
     told += [((value, None), (0, None)) for value in strange_values()]
     told += [(((), value), (1, None)) for value in strange_values() + [[]]]
-    told += [(((0, many), ()), (0, 1)), (((many,), None), (0, 0)), (((), (0, 0)), (1, 1)), (((0,), (far_many,)), (1, 0)),
+    told += [(((0, many), ()), (0, 1)), (((many,), None), (0, 0)), (((), (0, 0)), (1, 1)),
+             (((0,), (far_many,)), (1, 0)),
              (((True,), ()), (0, 0)), (((), (0, None)), (1, 1)), (((-1,), ()), (0, 0))]
     return told

@@ -81,7 +81,8 @@ def wrong_slips():
     """What are no slips of the minutes: test_slipping goes through all."""
     left = ("left", 0)
     pairs = [(value, None) for value in no_tuples() + [(left,) * 101]]
-    pairs += [((left, value), 1) for value in strange_values() + [(), ("left",), ("vain", 7), ("wrong", 0), ("wrong", 6),
+    pairs += [((left, value), 1) for value in strange_values() + [(), ("left",), ("vain", 7), ("wrong", 0),
+                                                                  ("wrong", 6),
                                                                   ("left", 8), ("left", True), ["left", 0]]]
     pairs += [((("vain", 0), left), 1), ((("wrong", 1), ("vain", 1)), 1), ((("vain", 1),) * 2, 1)]
     return [(value, BadMinutes, {"place": place}) for value, place in pairs]

@@ -182,7 +182,7 @@ def all_slips(minutes, many):
 
 @lru_cache(maxsize=None)
 def slip_costs(house, stand, minutes):
-    """For each pair of a stand and a pin the least number of slips by which it comes: put right till nothing changes."""
+    """For each pair of a stand and a pin the least number of slips by which it comes."""
     costs, left = {(stand, (0, 0)): 0}, [(stand, (0, 0))]
     while left:
         here, pin = left.pop()

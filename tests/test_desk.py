@@ -42,7 +42,8 @@ def house_of(text):
     """The house of a text whose lines are all right ones of houses, None if they don't go together."""
     lines = [line.split(" ") for line in text.split("\n")]
     weights, follow = items_of(lines[0][1:]), items_of(lines[-2][1:])
-    rules = tuple((kind, int(rank), (int(part), int(whole), how == "more")) for kind, rank, part, whole, how in lines[2:-2])
+    rules = tuple((kind, int(rank), (int(part), int(whole), how == "more"))
+                  for kind, rank, part, whole, how in lines[2:-2])
     limit = None if lines[-1][1] == "bare" else int(lines[-1][1])
     if len(follow) != len(weights) or max(follow) >= len(weights):
         return None
@@ -189,11 +190,14 @@ class DrawnLinesTest(unittest.TestCase):
             right = [model_act(act) for act in acts(model.house, model.stand())]
             if model.led is not None and right and right[0][:4] == "vote":
                 right = [line for line in right if not set(items_of(line.split(" ")[1:])) & set(model.led[1])]
-        more = ["begin none turn 0", "begin 0 turn 0", "begin none turn 1", "begin none turn 7", "begin 5 turn 0", "begin",
-                "begin none", "begin none turn", "begin none turn 0 0", "lot none", "lot 0", "lot 0 1", "lot 1", "lot 4",
+        more = ["begin none turn 0", "begin 0 turn 0", "begin none turn 1", "begin none turn 7", "begin 5 turn 0",
+                "begin",
+                "begin none", "begin none turn", "begin none turn 0 0", "lot none", "lot 0", "lot 0 1", "lot 1",
+                "lot 4",
                 "lot", "lot 1 0", "lot never", "goal never", "goal none", "goal 0", "goal none or 0", "goal 0 or none",
-                "goal 9", "goal", "goal never or 0", "goal or", "goal x 0", "force", "bar", "force 0", "bar none", "back",
-                "back 1", "stop", "stop now", "go", "go on", "go", "go", "go", "due", "due ", " due", "may\n", "pass\npass",
+                "goal 9", "goal", "goal never or 0", "goal or", "goal x 0", "force", "bar", "force 0", "bar none",
+                "back", "back 1", "stop", "stop now", "go", "go on", "go", "go", "go", "due", "due ", " due", "may\n",
+                "pass\npass",
                 "members 1\nclauses 1", ""]
         return [right or ASKS, right or ASKS, right or ASKS, ["go", "go", "pass"], ASKS, more, STRANGE_WORDS,
                 ["force", "bar", "lot 0", "goal none", "goal 0", "stop", "back", "lot 0 1"]]
@@ -208,8 +212,10 @@ class DrawnLinesTest(unittest.TestCase):
                 self.assertEqual(desk.say(line), answer, (line, model.house, model.row, model.led))
                 self.check_state(desk, model)
                 found[line.split(" ")[0], answer.split(" ")[0]] = True
-        for pair in (("pass", "over"), ("force", "no"), ("force", "done"), ("bar", "done"), ("bar", "no"), ("go", "move"),
-                     ("go", "pass"), ("go", "no"), ("left", "bare"), ("back", "nothing"), ("stop", "done"), ("vote", "done"),
+        for pair in (("pass", "over"), ("force", "no"), ("force", "done"), ("bar", "done"), ("bar", "no"),
+                     ("go", "move"),
+                     ("go", "pass"), ("go", "no"), ("left", "bare"), ("back", "nothing"), ("stop", "done"),
+                     ("vote", "done"),
                      ("due", "question"), ("due", "over"), ("due", "own"), ("due", "others"), ("members", "done"),
                      ("carriers", "none"), ("short", "none"), ("limit", "done"), ("goal", "no"), ("lot", "no")):
             self.assertIn(pair, found)
@@ -242,6 +248,16 @@ class DrawnLinesTest(unittest.TestCase):
         self.assertEqual(desk.led_one is None, model.led is None)
         if model.led is not None:
             self.assertEqual((desk.led_one.stand, len(desk.led_one)), (model.stand(), len(model.row)))
+
+
+class ToldAsMay:
+    """What is told as a line, but is no string."""
+
+    def __str__(self):
+        return "may"
+
+    def split(self, sign):
+        return ["may"]
 
 
 class LinesTest(unittest.TestCase):
@@ -358,13 +374,27 @@ class LinesTest(unittest.TestCase):
 
     def test_values_of_any_kind(self):
         for desk in (Desk(), begun(HOUSE)):
-            for value in strange_values() + [["may"], ("may",), b"may", 0, 1, "may ", " may", "may\n", "\n", "MAY", "may may",
+            for value in strange_values() + [ToldAsMay(), ["may"], ("may",), b"may", 0, 1, "may ", " may", "may\n",
+                                             "\n", "MAY", "may may",
                                              "over none", "floor", "none", "yes", "no", "row a", "lot a 0", "goal a 0"]:
                 before = (desk.house, desk.sitting and desk.sitting.row)
                 self.assertEqual(desk.say(value), "no", value)
                 self.assertEqual(desk.say(line=value), "no")
                 self.assertEqual((desk.house, desk.sitting and desk.sitting.row), before)
         self.assertEqual(begun(HOUSE).say(OtherStr("row")), "none")
+
+    def test_lines_with_a_line_feed(self):
+        lines = model_house(HOUSE).split("\n")
+        for many in range(len(lines)):
+            desk = Desk()
+            for line in lines[:many]:
+                desk.say(line)
+            for wrong in (lines[many] + "\n", "\n" + lines[many], "\n".join(lines[many:many + 2] + [""])):
+                self.assertEqual(desk.say(wrong), "no")
+            self.assertIsNone(desk.house)
+            self.assertEqual(desk.say(lines[many]), "done")
+        for line in ("begin none turn 0\n", "pass\n", "lot 0\n", "goal 0\n", "force\n", "back\n", "pass\npass"):
+            self.assertEqual(begun(HOUSE).say(line), "no")
 
     def test_too_great(self):
         desk = begun(GREAT)

@@ -121,7 +121,8 @@ class LotsTest(unittest.TestCase):
             goals = goals_with(journey[0][1])
             for lots_of in some_lots(journey, 6):
                 told = round_map(journey, lots_of)
-                self.assertEqual([goals[number] for number in told], [round_of(journey, lots_of, goal) for goal in goals])
+                rounds = [round_of(journey, lots_of, goal) for goal in goals]
+                self.assertEqual([goals[number] for number in told], rounds)
                 self.assertTrue(is_rising(told))
 
     def test_families_by_all_goals(self):

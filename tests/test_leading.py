@@ -177,7 +177,8 @@ class LedTest(unittest.TestCase):
         self.assertEqual(led.go(), ("move", ("end",)))
         self.assertEqual(led.acts_left(), 12)
         self.assertTrue(are_plain(led.stand))
-        led = Led(OtherTuple(HOUSE), OtherTuple(BEGIN), OtherTuple((OtherInt(0), OtherInt(1))), ((0,),), OtherStr("bar"))
+        led = Led(OtherTuple(HOUSE), OtherTuple(BEGIN), OtherTuple((OtherInt(0), OtherInt(1))), ((0,),),
+                  OtherStr("bar"))
         self.assertIs(led.acts_left(), None)
         self.assertTrue(are_plain((led.go(), led.stand)))
         over = Led(HOUSE, ("over", (0,)), (), ((0,),), "force")

@@ -240,6 +240,8 @@ class EqualTest(unittest.TestCase):
         self.assertTrue(one == other)
         self.assertFalse(Sitting(HOUSE, one.stand) == one)
         self.assertEqual(Sitting(HOUSE, one.stand).stand, one.stand)
+        self.assertFalse(Sitting(HOUSE, one.stand) == Sitting(HOUSE, BEGIN))
+        self.assertFalse(Sitting(HOUSE, ("over", ())) == Sitting(HOUSE, ("over", (0,))))
         # Votes that lead to the same stand are unlike acts.
         put = ("floor", (), None, (("put", (0,)),), False, 0, 3, 2)
         one, other = Sitting(HOUSE, put), Sitting(HOUSE, put)

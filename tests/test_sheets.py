@@ -112,14 +112,16 @@ class FormsTest(unittest.TestCase):
             check_refused(self, BadWords, {"line": many, "word": 0}, sheet_told, "\n".join(lines[:many]))
             check_refused(self, BadWords, {"line": many, "word": 0}, judged, "\n".join(lines[:many]))
         last = len(lines)
-        for line, fault in (("row", (last, 1)), ("row Abc", (last, 1)), ("row abcdefghi", (last, 1)), ("row a b", (last, 2)),
+        for line, fault in (("row", (last, 1)), ("row Abc", (last, 1)), ("row abcdefghi", (last, 1)),
+                            ("row a b", (last, 2)),
                             ("lot a1 0", (last, 1)), ("lot 1 0", (last, 1)), ("goal a_b 0", (last, 1)),
                             ("comes a-", (last, 1)), ("comes ", (last, 1)),
                             ("lot a", (last, 2)), ("goal a", (last, 2)), ("goal a never or 0", (last, 3)),
                             ("goal a 0 or", (last, 4)), ("goal a 0 or never", (last, 4)), ("ends a", (last, 2)),
                             ("comes", (last, 1)), ("comes a b", (last, 2)), ("stands a 0", (last, 3)), ("", (last, 0)),
                             ("pass", (last, 0)), ("comes a\nlot a 0", (last + 1, 0)), ("row a\nnone", (last + 1, 0)),
-                            ("lot a none\npass", (last + 1, 0)), ("breaks a x", (last, 2)), ("begin none turn 0", (last, 0))):
+                            ("lot a none\npass", (last + 1, 0)), ("breaks a x", (last, 2)),
+                            ("begin none turn 0", (last, 0))):
             check_refused(self, BadWords, {"line": fault[0], "word": fault[1]}, sheet_told, whole + "\n" + line)
         for value in strange_values():
             if not isinstance(value, str):
@@ -139,7 +141,8 @@ class FormsTest(unittest.TestCase):
                     check_refused(self, kind, fields, function, whole + "\n" + lines + "\n" + other)
                     check_refused(self, BadText, {"number": 0}, function,
                                   whole.replace("begin none", "begin 1") + "\n" + lines)
-                    check_refused(self, BadMember, {"value": 3}, function, whole.replace("turn 0", "turn 3") + "\n" + lines)
+                    check_refused(self, BadMember, {"value": 3}, function,
+                                  whole.replace("turn 0", "turn 3") + "\n" + lines)
                     check_refused(self, BadHouse, {"place": "clauses"}, function,
                                   whole.replace("clauses 1", "clauses 0").replace("turn 0", "turn 3") + "\n" + lines)
                 check_refused(self, BadWords, {"line": len((whole + lines).split("\n")) + 1, "word": 0}, function,
@@ -218,7 +221,8 @@ class VerdictsTest(unittest.TestCase):
 
     def test_names_that_are_not_there(self):
         things = [("row", "r", (PASS,)), ("lot", "l", (0, 1, 2)), ("goal", "g", ((),))]
-        verdicts = ["forces l g", "forces g l", "forces r g", "forces l r", "bars l x", "bars x g", "comes l", "comes r",
+        verdicts = ["forces l g", "forces g l", "forces r g", "forces l r", "bars l x", "bars x g", "comes l",
+                    "comes r",
                     "comes g", "ends l none", "same r l", "same g r", "short g 1", "short r 1", "stands l 0 over none",
                     "breaks g 0"]
         self.assertEqual(judged(sheet_of(HOUSE, (), 0, things, verdicts)),
@@ -228,7 +232,8 @@ class VerdictsTest(unittest.TestCase):
     def test_the_last_one_of_a_name_counts(self):
         things = [("goal", "g", ()), ("lot", "l", ()), ("row", "r", ()), ("goal", "g", ((),)), ("lot", "l", (0, 1, 2)),
                   ("row", "r", (PASS,) * 3)]
-        self.assertEqual(judged(sheet_of(HOUSE, (), 0, things, ["forces l g", "ends r none", "short r 1", "breaks r 0"])),
+        self.assertEqual(judged(sheet_of(HOUSE, (), 0, things,
+                                         ["forces l g", "ends r none", "short r 1", "breaks r 0"])),
                          (True, True, True, False))
 
     def test_too_great(self):

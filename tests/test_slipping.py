@@ -38,7 +38,8 @@ def drawn_cases(every=1):
                 told.append((house, stand, drawn_minutes(house, state, 3000 * state + 11 * number + 1)))
             row = drawn_row(house, stand, 17 * number + 2, 8)
             minutes = told_by(house, stand, row, 2)
-            told += [(house, stand, minutes), (house, stand, minutes[:2] + drawn_minutes(house, 2, number) + minutes[2:])]
+            more = minutes[:2] + drawn_minutes(house, 2, number) + minutes[2:]
+            told += [(house, stand, minutes), (house, stand, more)]
             told.append((house, stand, minutes[1::2]))
     return told[::every]
 
@@ -296,7 +297,8 @@ class PapersTest(unittest.TestCase):
         wrong += [("slips", value, slips, marks) for value in strange_values() + [[]]]
         wrong += [("slips", row, value, marks) for value in strange_values() + [
             [], (("left", 3),), (("wrong", 1),), (("vain", 0), ("left", 0)), (("left", 0),) * 101, (None,)]]
-        wrong += [("slips", row, slips, value) for value in strange_values() + [(), marks[:-1], marks + ((),), list(marks)]]
+        no_marks = strange_values() + [(), marks[:-1], marks + ((),), list(marks)]
+        wrong += [("slips", row, slips, value) for value in no_marks]
         for at in range(len(marks)):
             for value in strange_values() + [((BEGIN,),), ((BEGIN, 0, 0),), [], (BEGIN,), ((("over", (3,)), 0),),
                                              ((BEGIN, 0), (BEGIN, 1)), ((BEGIN, 0), (OtherTuple(BEGIN), 0)), (([], 0),),

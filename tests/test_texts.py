@@ -147,7 +147,8 @@ class ThereAndBackTest(unittest.TestCase):
             for act in told:
                 self.assertEqual(act_text(house, act), model_act(act))
                 self.assertEqual(read_act(house, model_act(act)), act)
-            for row in [(), told[:1], told, told[::-2]] + [drawn_row(house, first_stand(house), at, 9) for at in range(5)]:
+            rows = [drawn_row(house, first_stand(house), state, 9) for state in range(5)]
+            for row in [(), told[:1], told, told[::-2]] + rows:
                 row = tuple(row)
                 text = "\n".join(model_act(act) for act in row) or "none"
                 self.assertEqual(row_text(house, row), text)
@@ -234,7 +235,8 @@ class FormsTest(unittest.TestCase):
                                  (house + " 3", 5, 2), ("\n".join(lines[:2] + lines[3:]), 2, 0),
                                  ("\n".join(lines[:2] + lines[3:4] + lines[2:3] + lines[4:]), 2, 0),
                                  ("\n".join(lines[:4] + lines[3:]), 4, 0), ("\n".join(lines[:3]), 3, 0),
-                                 (house.replace("1 2 more", "1 2 much", 1), 2, 4), (house.replace("1 1 2", "1 1"), 2, 3),
+                                 (house.replace("1 2 more", "1 2 much", 1), 2, 4),
+                                 (house.replace("1 1 2", "1 1"), 2, 3),
                                  (house.replace("limit bare", "limit none"), 5, 1), (" " + house, 0, 0),
                                  (house.replace("clauses 1", "clauses 01"), 1, 1), (house + " ", 5, 2),
                                  (house.replace("clauses 1", "clauses 1234567890"), 1, 1),
@@ -268,7 +270,8 @@ class FormsTest(unittest.TestCase):
 
     def test_what_has_the_form_and_is_none(self):
         house = model_house(HOUSE)
-        for old, new, place in (("members 2 1 1", "members 2 1 0", "weights"), ("members 2 1 1", "members -5", "weights"),
+        for old, new, place in (("members 2 1 1", "members 2 1 0", "weights"),
+                                ("members 2 1 1", "members -5", "weights"),
                                 ("clauses 2", "clauses 4", "clauses"), ("put 1 1 2", "put 10 1 2", "book"),
                                 ("put 1 1 2", "put 1 3 2", "book"), ("next 1 2 0", "next 1 2 3", "next"),
                                 ("next 1 2 0", "next 1 2", "next"), ("limit 3", "limit 10", "limit"),

@@ -41,8 +41,10 @@ def no_words(pairs):
     return told + [(text, BadWords, {"line": line, "word": word}) for text, line, word in pairs]
 
 
-MOTION_PAIRS = [("put", 0, 1), ("put 1 0", 0, 2), ("amend 1 1", 0, 2), ("lay ", 0, 1), ("close\n", 1, 0), ("pass", 0, 0)]
-ACT_PAIRS = [("pass pass", 0, 1), ("move", 0, 1), ("move pass", 0, 1), ("vote", 0, 1), ("vote 0 0", 0, 2), ("pass\npass", 1, 0)]
+MOTION_PAIRS = [("put", 0, 1), ("put 1 0", 0, 2), ("amend 1 1", 0, 2), ("lay ", 0, 1), ("close\n", 1, 0),
+                ("pass", 0, 0)]
+ACT_PAIRS = [("pass pass", 0, 1), ("move", 0, 1), ("move pass", 0, 1), ("vote", 0, 1), ("vote 0 0", 0, 2),
+             ("pass\npass", 1, 0)]
 ROW_PAIRS = [("pass\n", 1, 0), ("none\npass", 1, 0), ("pass\nvote 1 none", 1, 2), ("pass\nput 0", 1, 0)]
 STAND_PAIRS = [("over", 0, 1), ("floor none table bare pile none open turn 0 passes 0 left", 0, 12),
                ("floor none table pile none", 0, 3), ("over 1 0", 0, 2)]
