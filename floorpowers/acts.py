@@ -1,6 +1,6 @@
 """Acts: moves, passes and votes, which of them are in order, and where they lead."""
 
-from floorpowers.errors import BadAct
+from floorpowers.errors import BadAct, BadRow
 from floorpowers.halls import Hall, acts_in, behind_act, first_steps, is_act_in_order
 from floorpowers.houses import member_count, need_house
 from floorpowers.motions import motion_fault
@@ -31,6 +31,16 @@ def need_act(house, act):
     """The act itself."""
     need_house(house)
     return need_act_in(house, act)
+
+
+def need_acts_in(house, row):
+    """A tuple of acts itself, in order or not, of a house that is checked."""
+    if not isinstance(row, tuple):
+        raise BadRow(None)
+    for number, act in enumerate(row):
+        if not is_act(house, act):
+            raise BadRow(number)
+    return row
 
 
 def acts_at(house, stand):

@@ -247,7 +247,7 @@ def fit_paper(house, stand, minutes):
     return ("none", tuple([tuple([here for here in chart.steps if (here, pin) in leads]) for pin in digits]))
 
 
-def pairs_told(house, lots):
+def lots_told(house, lots):
     """The pairs of stands and pins of any value that is a tuple of tuples of unlike stands, else None."""
     told = {}
     for number, lot in enumerate(lots):
@@ -274,7 +274,7 @@ def need_fit_form(house, chart, paper):
             return None
     elif is_tuple_of(paper, 2) and is_word_of(paper[0], ("none",)):
         if is_tuple_of(paper[1], len(chart.track.pins) - 1):
-            told = pairs_told(house, paper[1])
+            told = lots_told(house, paper[1])
             if told is not None:
                 return told
     raise BadPaper("form")

@@ -32,7 +32,7 @@ def can_guide(guide, stand):
     return (stand in guide.ranks) == guide.is_forced
 
 
-def act_by(guide, stand):
+def own_act(guide, stand):
     """The act of a member of the lot at its turn, None where there is none that the guide tells."""
     if guide.is_forced:
         return choice_by(guide.play, stand, guide.ranks, guide.steps[stand])
@@ -90,7 +90,7 @@ class Led:
 
     def go(self):
         """Do the lot's act: the act."""
-        act = act_by(self._guide, self.stand) if self.due() == "own" else None
+        act = own_act(self._guide, self.stand) if self.due() == "own" else None
         if act is None:
             raise BadAct(None)
         self._sitting.do(act)

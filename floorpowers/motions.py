@@ -25,13 +25,18 @@ def motion_fault(house, value):
     return ()
 
 
-def need_motion(house, motion):
-    """The motion itself."""
-    need_house(house)
+def need_motion_in(house, motion):
+    """The motion itself, of a house that is checked."""
     fault = motion_fault(house, motion)
     if fault:
         raise BadMotion(fault[0])
     return motion
+
+
+def need_motion(house, motion):
+    """The motion itself."""
+    need_house(house)
+    return need_motion_in(house, motion)
 
 
 def motions_of_kind(house, kind):

@@ -1,7 +1,7 @@
 """Renamings: members and clauses of a house under other numbers, and texts with clauses turned."""
 
-from floorpowers.acts import is_act, need_act
-from floorpowers.errors import BadNumber, BadRow
+from floorpowers.acts import need_act, need_acts_in
+from floorpowers.errors import BadNumber
 from floorpowers.houses import clause_count, member_count, need_goal, need_house, need_lot_of, text_fault
 from floorpowers.stands import need_stand
 from floorpowers.subsets import turned
@@ -126,20 +126,10 @@ def act_renamed(house, act, renaming):
     return act_by(plain(renaming), plain(act))
 
 
-def need_acts(house, row):
-    """A tuple of acts itself, in order or not, of a house that is checked."""
-    if not isinstance(row, tuple):
-        raise BadRow(None)
-    for number, act in enumerate(row):
-        if not is_act(house, act):
-            raise BadRow(number)
-    return row
-
-
 def row_renamed(house, row, renaming):
     """A tuple of acts renamed, in order or not."""
     need_house(house)
-    need_acts(house, row)
+    need_acts_in(house, row)
     need_renaming_in(house, renaming)
     names = plain(renaming)
     return tuple([act_by(names, act) for act in plain(row)])

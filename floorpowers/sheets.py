@@ -1,7 +1,6 @@
 """Sheets: a house, a beginning, rows, lots and goals by their names, and verdicts on them."""
 
-from floorpowers.acts import is_act
-from floorpowers.errors import BadRow
+from floorpowers.acts import need_acts_in
 from floorpowers.halls import Hall
 from floorpowers.houses import member_count, need_goal_in, need_house, need_text_in
 from floorpowers.members import need_lot_below, need_member_among
@@ -99,9 +98,7 @@ def need_thing(house, sort, thing):
     elif sort == "goal":
         need_goal_in(house, thing)
     else:
-        for number, act in enumerate(thing):
-            if not is_act(house, act):
-                raise BadRow(number)
+        need_acts_in(house, thing)
 
 
 def sheet_of(text):
@@ -147,7 +144,7 @@ def way_from(court, name):
     return (row, way_in_order(court.seat, court.begin, row))
 
 
-def is_whole(told):
+def is_row_whole(told):
     """Whether there is a row of a name, that is in order."""
     return told is not None and len(told[1]) == len(told[0]) + 1
 
@@ -156,17 +153,17 @@ def is_row_so(court, word, told, things):
     """Whether a verdict on a row is so: told are the row and its way, things stand behind its name."""
     row, way = told
     if word == "breaks":
-        return not is_whole(told) and things[0] == len(way) - 1
+        return not is_row_whole(told) and things[0] == len(way) - 1
     if word == "stands":
         return 0 <= things[0] < len(way) and way[things[0]] == things[1]
-    if not is_whole(told):
+    if not is_row_whole(told):
         return False
     if word == "ends":
         return way[-1] == ("over", things[0])
     if word == "short":
         return len(short_lines(Hall(court.seat), way, row)) == things[0]
     other = way_from(court, things[0])
-    return is_whole(other) and other[1][-1] == way[-1]
+    return is_row_whole(other) and other[1][-1] == way[-1]
 
 
 def does_goal_come(court, goal):

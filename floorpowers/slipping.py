@@ -30,7 +30,7 @@ def slip_place(slip):
     return (slip[1], SLIP_WORDS.index(slip[0]))
 
 
-def may_stand_behind(ahead, slip):
+def may_slip_behind(ahead, slip):
     """Whether a slip may stand right behind another one: "left" again, all else of an entry once."""
     if ahead[1] != slip[1]:
         return ahead[1] < slip[1]
@@ -42,7 +42,7 @@ def slips_fault(entries, value):
     if not isinstance(value, tuple) or len(value) > MOST_SLIPS:
         return (None,)
     for number, slip in enumerate(value):
-        if not is_slip(entries, slip) or (number > 0 and not may_stand_behind(value[number - 1], slip)):
+        if not is_slip(entries, slip) or (number > 0 and not may_slip_behind(value[number - 1], slip)):
             return (number,)
     return ()
 

@@ -1,10 +1,10 @@
 """Texts: houses, motions, acts, rows and stands as lines of words, short texts of rows, and reading all these."""
 
-from floorpowers.acts import is_act, need_act_in
-from floorpowers.errors import BadMotion, BadRow
+from floorpowers.acts import is_act, need_act_in, need_acts_in
+from floorpowers.errors import BadRow
 from floorpowers.halls import Hall, behind_act, behind_vote, carries_kind, is_act_in_order, is_question
 from floorpowers.houses import need_house
-from floorpowers.motions import motion_fault
+from floorpowers.motions import need_motion_in
 from floorpowers.rows import way_of
 from floorpowers.stands import need_stand, need_stand_in
 from floorpowers.subsets import all_subsets
@@ -19,14 +19,6 @@ def house_text(house):
     return told_house(plain(need_house(house)))
 
 
-def need_motion_in(house, motion):
-    """The motion itself, of a house that is checked."""
-    fault = motion_fault(house, motion)
-    if fault:
-        raise BadMotion(fault[0])
-    return motion
-
-
 def motion_text(house, motion):
     """The text of a motion."""
     need_house(house)
@@ -39,20 +31,10 @@ def act_text(house, act):
     return told_act(plain(need_act_in(house, act)))
 
 
-def need_acts(house, row):
-    """Acts of a house that is checked, in order or not, themselves."""
-    if not isinstance(row, tuple):
-        raise BadRow(None)
-    for number, act in enumerate(row):
-        if not is_act(house, act):
-            raise BadRow(number)
-    return row
-
-
 def row_text(house, row):
     """The text of a row, in order or not."""
     need_house(house)
-    return "\n".join(row_lines(plain(need_acts(house, row))))
+    return "\n".join(row_lines(plain(need_acts_in(house, row))))
 
 
 def stand_text(house, stand):
@@ -83,7 +65,7 @@ def read_act(house, text):
 def read_row(house, text):
     """The row of a text, in order or not."""
     need_house(house)
-    return need_acts(house, take_row(reader_of(text)))
+    return need_acts_in(house, take_row(reader_of(text)))
 
 
 def read_stand(house, text):

@@ -105,11 +105,6 @@ def moved(track, act, pins):
     return ((pins & track.told[act]) << 1) | (pins & track.staying)
 
 
-def moved_back(track, act, pins):
-    """The pins that are led to some of these by an act."""
-    return ((pins >> 1) & track.told[act]) | (pins & track.staying)
-
-
 def is_passed(entry, stand):
     """Whether an entry is over without an act, once there are enough: a gap, or a note that is so."""
     return entry[0] == "gap" or (entry[0] == "note" and is_note_so(stand, entry))
@@ -121,15 +116,6 @@ def settled(track, stand, pins):
     for entry, shut, begin in zip(track.entries, track.shut, track.begins[1:]):
         if found & shut and is_passed(entry, stand):
             found = found | begin
-    return found
-
-
-def settled_back(track, stand, pins):
-    """Pins with all those that lead to them in a stand without an act."""
-    found = pins
-    for entry, shut, begin in zip(track.entries[::-1], track.shut[::-1], track.begins[:0:-1]):
-        if found & begin and is_passed(entry, stand):
-            found = found | shut
     return found
 
 

@@ -10,6 +10,7 @@ from floorpowers.reach import web_steps
 from floorpowers.stands import beginning
 from floorpowers.subsets import rest_of, turned
 from floorpowers.values import plain
+from floorpowers.votes import side_of
 
 
 class Ground:
@@ -48,11 +49,8 @@ def last_side(journey, lot):
     house, _, _, _, share = journey
     if share is None:
         return None
-    does_lot = does_carry(house[0], share, lot)
-    do_others = does_carry(house[0], share, rest_of(len(house[0]), lot))
-    if does_lot:
-        return "up" if do_others else "decides"
-    return "others" if do_others else "down"
+    others = rest_of(len(house[0]), lot)
+    return side_of(does_carry(house[0], share, lot), does_carry(house[0], share, others))
 
 
 def trip_by(journey, lot, near, far):

@@ -9,13 +9,16 @@ from floorpowers.subsets import rest_of
 from floorpowers.values import plain
 
 
-def side_in(hall, kind, lot):
-    """What a lot can make of a vote on a motion of a kind; nothing is checked."""
-    does_lot = carries_kind(hall, kind, lot)
-    do_others = carries_kind(hall, kind, rest_of(hall.many, lot))
+def side_of(does_lot, do_others):
+    """What a lot can make of a vote, by whether it carries and whether its others do."""
     if does_lot:
         return "up" if do_others else "decides"
     return "others" if do_others else "down"
+
+
+def side_in(hall, kind, lot):
+    """What a lot can make of a vote on a motion of a kind; nothing is checked."""
+    return side_of(carries_kind(hall, kind, lot), carries_kind(hall, kind, rest_of(hall.many, lot)))
 
 
 def sides_of(house, kind, lot):
