@@ -183,7 +183,7 @@ def may_slips(house, stand, minutes):
 def does_end_without(slipping, good, slip):
     """Whether some way with the fewest slips comes to its end without a slip; good are the steps on such ways."""
     steps = all_steps(slipping.begin, lambda pair: [step for step in good[pair] if step[2][1] != slip])
-    return any([pair in steps and slipping.ways[pair][0] == slipping.fewest for pair in slipping.ends])
+    return any([pair in steps for pair in slipping.ends])
 
 
 def sure_slips(house, stand, minutes):

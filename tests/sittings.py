@@ -208,3 +208,8 @@ EDGE_HOUSE = ((1, 1, 1), 3, book(put=(0, HALF), lay=(3, HALF), take=(3, HALF), c
 BEYOND_EDGE, ON_EDGE = [("floor", (), None, (("put", (1, 2)), ("lay",), ("close",)), False, 0, passes, 2)
                         for passes in (0, 1)]
 GREAT = ((3, 2, 1), 3, FULL, (1, 2, 0), 9)
+
+# From this stand 500 can be reached: with forty pins of minutes there are 20,000 pairs.
+PAIRS_HOUSE = ((3, 1, 2, 1), 2, book(put=(1, THIRD), amend=(2, NOBODY), lay=(2, HALF)), (2, 0, 1, 2), 2)
+ON_PAIRS = ("floor", (), None, (), False, 1, 0, 2)
+FORTY_PINS = (("gap", 0, 9),) * 3 + (("gap", 0, 8),)

@@ -10,8 +10,8 @@ from floorpowers.webs import web_of
 from helpers import check_refused, strange_values
 from minutes_models import (ONE_ACT, WORDS, all_pins, cuts_of, does_note, does_tell, drawn_minutes, good_pairs, leads,
                             pair_graph, things_of, told_by)
-from sittings import (BEYOND_EDGE, EDGE_HOUSE, FULL, GREAT, HALF, ON_EDGE, SMALL, acts, after, all_rows, book,
-                      drawn_row, first_stand, graph)
+from sittings import (BEYOND_EDGE, EDGE_HOUSE, FORTY_PINS, FULL, GREAT, HALF, ON_EDGE, ON_PAIRS, PAIRS_HOUSE, SMALL,
+                      acts, after, all_rows, book, drawn_row, first_stand, graph)
 from test_webs import odd_stand, starts
 
 PASS = ("pass",)
@@ -331,6 +331,8 @@ class PapersTest(unittest.TestCase):
         check_refused(self, BadPaper, {"word": "none"}, check_fit, house, begin, (), ("none", ()))
         check_refused(self, BadPaper, {"word": "form"}, check_fit, house, begin, (), ("none", ((begin,),)))
         self.assertEqual(check_fit(house, begin, (), ("fits", (), (0,))), "fits")
+        check_refused(self, BadPaper, {"word": "fits"}, check_fit, house, begin, (GAP,),
+                      ("fits", (("vote", ()),), (0, 1)))
         check_refused(self, BadPaper, {"word": "fits"}, check_fit, house, begin, (), ("fits", (PASS,), (0,)))
 
 
@@ -370,6 +372,16 @@ class RefusalsTest(unittest.TestCase):
         for function in (says_no_more, parting_fit, both_fit):
             check_refused(self, TooGreat, {"most": 20000}, function, EDGE_HOUSE, ON_EDGE, (), seven)
             function(EDGE_HOUSE, ON_EDGE, six, ())
+        self.assertEqual((len(web_of(PAIRS_HOUSE, ON_PAIRS)), len(all_pins(FORTY_PINS))), (500, 40))
+        more = FORTY_PINS[:3] + (("gap", 0, 9),)
+        for function, rest in self.calls():
+            check_refused(self, TooGreat, {"most": 20000}, function, PAIRS_HOUSE, ON_PAIRS, more, *rest)
+        for function in (first_fit, fit_paper):
+            function(PAIRS_HOUSE, ON_PAIRS, FORTY_PINS)
+        for function in (says_no_more, parting_fit, both_fit):
+            function(PAIRS_HOUSE, ON_PAIRS, FORTY_PINS, ())
+            function(PAIRS_HOUSE, ON_PAIRS, (), FORTY_PINS)
+            check_refused(self, TooGreat, {"most": 20000}, function, PAIRS_HOUSE, ON_PAIRS, (), more)
         for many in strange_values() + [-1, 31, "0"]:
             check_refused(self, BadNumber, {"value": many}, fits_counted, EDGE_HOUSE, ON_EDGE, six, many)
             check_refused(self, BadNumber, {"value": many}, fit_at, EDGE_HOUSE, ON_EDGE, six, many, None)
@@ -425,6 +437,20 @@ class ManyLotsTest(unittest.TestCase):
             check_refused(self, TooGreat, {"most": 20000}, function, WIDE_HOUSE, begin, WIDE, ())
             check_refused(self, TooGreat, {"most": 20000}, function, WIDE_HOUSE, begin, (), WIDE)
         self.assertEqual(len(first_fit(WIDE_HOUSE, begin, WIDE)), 10)
+
+    def test_lots_without_a_pin_are_not_counted(self):
+        house = ((1, 1), 2, book(put=(1, HALF), amend=(2, HALF), end=(4, HALF)), (1, 0), None)
+        begin = first_stand(house)
+        minutes = (("gap", 0, 9), ("voted", (0,), ()), ("gap", 0, 9), ("gap", 0, 9))
+        # There are 19,579 pairs with a pin, and each of 620 stands comes without one, too.
+        self.assertEqual(len(web_of(house, begin)), 620)
+        self.assertEqual(fits_counted(house, begin, minutes, 30), 0)
+        self.assertGreater(fits_counted(house, begin, minutes, 28), 0)
+        self.assertFalse(says_no_more(house, begin, minutes, ()))
+        self.assertFalse(says_no_more(house, begin, (), minutes))
+        for function in (says_no_more, parting_fit, both_fit):
+            check_refused(self, TooGreat, {"most": 20000}, function, house, begin, minutes, (GAP,))
+            check_refused(self, TooGreat, {"most": 20000}, function, house, begin, (GAP,), minutes)
         self.assertEqual(len(fit_paper(WIDE_HOUSE, begin, WIDE)), 3)
 
 

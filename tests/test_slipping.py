@@ -8,8 +8,8 @@ from floorpowers.fitting import first_fit
 from helpers import OtherTuple, check_refused, strange_values
 from minutes_models import (ONE_ACT, all_pins, all_slips, does_slip, drawn_minutes, leads, slip_costs, slip_order,
                             slips_leading, told_by, ways_with_slips)
-from sittings import (BEYOND_EDGE, EDGE_HOUSE, FULL, GREAT, HALF, ON_EDGE, SMALL, after, all_rows, book, drawn_row,
-                      first_stand, graph)
+from sittings import (BEYOND_EDGE, EDGE_HOUSE, FORTY_PINS, FULL, GREAT, ON_EDGE, ON_PAIRS, PAIRS_HOUSE, SMALL, after,
+                      all_rows, drawn_row, first_stand, graph)
 from test_webs import odd_stand, starts
 
 PASS = ("pass",)
@@ -287,6 +287,9 @@ class PapersTest(unittest.TestCase):
         self.check_paper(case, ("slips", (PASS,), (("wrong", 0),), marks), "marks")
         self.check_paper(case, ("slips", (PUT,), (("wrong", 0),), marks), "marks")
         self.check_paper(case, ("slips", (PUT,), (), marks), None)
+        case = (HOUSE, BEGIN, (GAP,))
+        for row in ((("vote", ()),), (PASS, ("vote", ()))):
+            self.check_paper(case, ("slips", row, (), slip_paper(*case)[3]), "slips")
 
     def test_forms(self):
         case = (HOUSE, BEGIN, (("act", PUT), ("gap", 0, 1)))
@@ -326,6 +329,9 @@ class RefusalsTest(unittest.TestCase):
             check_refused(self, BadMinutes, {"place": None}, function, GREAT, great, None, *rest)
             check_refused(self, BadMinutes, {"place": 1}, function, GREAT, great, (GAP, None), *rest)
         self.assertEqual(fewest_slips(EDGE_HOUSE, ON_EDGE, (("gap", 0, 4),)), 0)
+        paper = slip_paper(PAIRS_HOUSE, ON_PAIRS, FORTY_PINS)
+        self.assertEqual(check_slips(PAIRS_HOUSE, ON_PAIRS, FORTY_PINS, paper), 0)
+        self.assertEqual(may_slips(PAIRS_HOUSE, ON_PAIRS, FORTY_PINS), ())
 
 
 if __name__ == "__main__":
