@@ -70,8 +70,11 @@ def does_force_from(clauses, powers, text, goal):
 
 
 def is_good_end(trip, text, end, goal):
-    """Whether lots can make that a text of the goal stands, the far sitting of a text being over with an end."""
-    if trip.side is None or trip.side == "down" or end == text:
+    """Whether lots can make that a text of the goal stands, the far sitting of a text being over with an end.
+
+    Where both are the same there is no last vote, but whoever chose could choose nothing else.
+    """
+    if trip.side is None or trip.side == "down":
         return end in goal
     if trip.side == "up":
         return text in goal
