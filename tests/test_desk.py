@@ -307,6 +307,24 @@ class LinesTest(unittest.TestCase):
         self.assertEqual(desk.say("back"), "done")
         self.assertEqual(desk.say("back"), "nothing")
 
+    def test_the_very_sitting_moved_by_somebody_else(self):
+        house = ((1, 1), 1, FULL, (1, 0), 1)
+        for word, lot, goal, act in (("force", "0 1", "0", ("move", ("end",))),
+                                     ("bar", "0", "0", ("move", ("put", (0,))))):
+            desk = begun(house)
+            for line in ("lot " + lot, "goal " + goal, word):
+                self.assertEqual(desk.say(line), "done")
+            desk.sitting.do(act)
+            while not desk.sitting.is_at_end and len(desk.sitting) < 12:
+                before = desk.sitting.row
+                if desk.say("due") == "own" and desk.say("go") == "no":
+                    self.assertEqual(desk.sitting.row, before)
+                    self.assertEqual(desk.say("left"), "bare")
+                if desk.sitting.row == before:
+                    desk.sitting.do(desk.sitting.may()[-1] if desk.sitting.may() else ("vote", (0, 1)))
+            self.assertTrue(desk.sitting.is_at_end)
+            self.assertEqual((desk.say("due"), desk.say("go"), desk.say("left")), ("over", "no", "bare"))
+
     def test_what_leaves_what(self):
         desk = begun(HOUSE)
         for line in ("lot 0 1", "goal none", "force"):
