@@ -171,7 +171,7 @@ def slips_in(slipping):
     """The slips that stand in some of the fewest, in their order; the steps on ways with the fewest are told."""
     good = good_leads(slipping)
     slips = {label[1]: True for told in good.values() for _, cost, label in told if cost == 1}
-    return good, [slip for _, slip in sorted([(slip_place(slip), slip) for slip in slips])]
+    return good, [slip for _, slip in sorted([(slip_place(each), each) for each in slips])]
 
 
 def may_slips(house, stand, minutes):
